@@ -1,0 +1,1 @@
+"""Keptroutes: change tables of binary prefixes at the least price."""

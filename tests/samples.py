@@ -1,0 +1,80 @@
+"""Objects and helpers that several tests use."""
+
+import copy
+
+
+def nested(depth):
+    """Return an object of every kind of container, nested to this depth."""
+    thing = ('0', [1, None])
+    for level in range(depth):
+        thing = ([thing], (thing,), {'0': thing, 1: level})[level % 3]
+    return thing
+
+
+# Objects that are neither integers nor strings, of all the kinds that the document calls "any object".
+NO_TEXTS = (
+    True, False, None, (), [], {}, ('0',), ['0'], ['0', '1'], ('0', '1'), (1, 2), [1, 2], [[]], ([],), {'0': 'a'},
+    {1: 'a'}, {'0': []}, {'': {}}, ((), ((),)), [None, True], ('a', ['b', {'c': None}]), nested(19), ['0'] * 4999,
+)
+INTEGERS = (0, 1, -1, 2, 7, 32, 33, 10 ** 39, -10 ** 39)
+NO_STRINGS = NO_TEXTS + INTEGERS
+# Strings that hold something besides bits, at each place.
+NO_BITS = (
+    ' ', '0 ', ' 0', '2', '02', '20', '0 1', '021', 'a', 'O', 'l', '-', '*', '+1', '-1', '\t', '\n', '0\n', '\n0',
+    '0\t', '\t0', '0\n1', '0.', '0_1', "'0'", '~', '0~1', ',', 'None',
+)
+
+
+def wrong_prefixes(width):
+    """Return objects of all kinds that are no prefixes of this width."""
+    return NO_STRINGS + NO_BITS + ('0' * (width + 1), '1' * (width + 1), '01' * 2500)
+
+
+def wrong_addresses(width):
+    """Return objects of all kinds that are no addresses of this width."""
+    return wrong_prefixes(width) + tuple(('10' * 16)[:length] for length in range(width))
+
+
+NO_WIDTHS = NO_TEXTS + (0, 33, -1, -32, 64, 10 ** 39, -10 ** 39, '', '2', '02', 'two', ' ', '\n')
+NO_TARGETS = NO_STRINGS + (
+    '', 'a' * 9, 'abcdefghi', 'a' * 5000, 'A', 'aB', 'Ba', 'bAb', 'a1', '1a', '1', '0', 'a b', ' a', 'a ', ' ', '\n',
+    'a\n', '\na', 'a\nb', 'a\t', '\t', '-', 'a-b', '*', '`', '{', 'a{', '`a', '@', '[', 'None', 'a_b', '_',
+)
+TARGETS = ('a', 'z', 'm', 'none', 'abcdefgh', 'zzzzzzzz', 'any', 'ijklmnop', 'qrstuvwx', 'yz')
+WIDTHS = (1, 2, 5, 31, 32)
+
+
+def same(one, two):
+    """Return True if two objects are equal in value and kind, so that True is not 1."""
+    return repr(one) == repr(two)
+
+
+def kept_as_it_was(test, thing, action):
+    """Run the action and check that it leaves the object as it was."""
+    before = copy.deepcopy(thing)
+    result = action()
+    test.assertTrue(same(thing, before))
+    return result
+
+
+def raises(test, error, action):
+    """Check that the action raises exactly this error class, whatever its message."""
+    with test.assertRaises(error) as caught:
+        action()
+    test.assertIs(caught.exception.__class__, error)
+
+
+def addresses(width):
+    """Return all addresses of this width."""
+    return [format(number, 'b').zfill(width) for number in range(2 ** width)]
+
+
+def prefixes(width):
+    """Return all prefixes of this width."""
+    return [''] + [prefix for length in range(1, width + 1) for prefix in addresses(length)]
+
+
+def longest_by_search(rows, start):
+    """Return what `longest` must return, found among all the rows."""
+    found = [prefix for prefix in rows if start.startswith(prefix)]
+    return max(found, key=len) if found else None

@@ -1,0 +1,51 @@
+"""Point 2 and "The interface": where names are defined, and what the package folder holds."""
+
+import ast
+import pathlib
+import unittest
+
+PACKAGE = pathlib.Path(__file__).resolve().parent.parent / 'keptroutes'
+FUNCTIONS = {'maps.py': ('is_prefix',)}
+CLASSES = {
+    'maps.py': {
+        'PrefixMap': ('__init__', '__len__', '__eq__', 'width', 'rows', 'walk', 'longest', 'with_row', 'without'),
+    },
+    'tables.py': {'Table': ('__init__', 'of', 'is_target', 'lookup', 'targets')},
+}
+
+
+def definitions(nodes, kind):
+    """Return the definitions of this kind among the nodes, by name."""
+    return {node.name: node for node in nodes if isinstance(node, kind)}
+
+
+class InterfaceTest(unittest.TestCase):
+    def body(self, name):
+        return ast.parse((PACKAGE / name).read_text(encoding='utf-8')).body
+
+    def test_functions_are_defined_in_their_file(self):
+        for name, functions in FUNCTIONS.items():
+            for function in functions:
+                self.assertIn(function, definitions(self.body(name), ast.FunctionDef))
+
+    def test_methods_are_defined_in_their_class(self):
+        for name, classes in CLASSES.items():
+            found = definitions(self.body(name), ast.ClassDef)
+            for owner, methods in classes.items():
+                for method in methods:
+                    with self.subTest(owner=owner, method=method):
+                        self.assertIn(method, definitions(found[owner].body, ast.FunctionDef))
+
+    def test_the_folder_holds_only_python_files(self):
+        for path in PACKAGE.iterdir():
+            if path.name != '__pycache__':
+                self.assertTrue(path.is_file() and path.suffix == '.py', path.name)
+
+    def test_sizes(self):
+        for path in PACKAGE.glob('*.py'):
+            lines = path.read_text(encoding='ascii').split('\n')
+            self.assertLess(len(lines), 400, path.name)
+            self.assertLessEqual(max(len(line) for line in lines), 120, path.name)
+            for node in ast.walk(ast.parse('\n'.join(lines))):
+                if isinstance(node, ast.FunctionDef):
+                    self.assertLessEqual(node.end_lineno - node.lineno + 1, 40, node.name)
