@@ -1,6 +1,7 @@
 """Objects and helpers that several tests use."""
 
 import copy
+import random
 
 
 def nested(depth):
@@ -40,6 +41,12 @@ NO_TARGETS = NO_STRINGS + (
     '', 'a' * 9, 'abcdefghi', 'a' * 5000, 'A', 'aB', 'Ba', 'bAb', 'a1', '1a', '1', '0', 'a b', ' a', 'a ', ' ', '\n',
     'a\n', '\na', 'a\nb', 'a\t', '\t', '-', 'a-b', '*', '`', '{', 'a{', '`a', '@', '[', 'None', 'a_b', '_',
 )
+# Objects that a wish does not take as the value of a row.
+NO_ALLOWED = tuple(thing for thing in NO_STRINGS if repr(thing) not in ('()', '[]')) + (
+    '', 'a', 'ab', '-', 'any', 'None', 'a b', {'a': 'b'}, {'a': None}, {}, ['a', 'a'], ('a', 'a'), [None, None],
+    (None, None), ['a', 'b', 'a'], ['a', 'b', 'b'], (None, 'a', None), ['a', None, 'b', None], ['a'] * 4999,
+    [['a']], [('a',)], (['a'],), (('a', 'b'),), [['a'], ['a']], [{'a': 'b'}], [[]], ((),), [{}],
+)
 TARGETS = ('a', 'z', 'm', 'none', 'abcdefgh', 'zzzzzzzz', 'any', 'ijklmnop', 'qrstuvwx', 'yz')
 WIDTHS = (1, 2, 5, 31, 32)
 
@@ -78,3 +85,39 @@ def longest_by_search(rows, start):
     """Return what `longest` must return, found among all the rows."""
     found = [prefix for prefix in rows if start.startswith(prefix)]
     return max(found, key=len) if found else None
+
+
+def beside(width, some):
+    """Return the first and the last address of each of these prefixes and those next to them, in ascending order."""
+    found = {0, 2 ** width - 1}
+    for prefix in some:
+        first = int(prefix.ljust(width, '0'), 2)
+        last = int(prefix.ljust(width, '1'), 2)
+        found |= {first - 1, first, first + 1, last - 1, last, last + 1}
+    return [format(number, 'b').zfill(width) for number in sorted(found) if 0 <= number < 2 ** width]
+
+
+def some_prefixes(chance, width, many):
+    """Return up to this many different prefixes, of which some begin with others."""
+    found = {}
+    for _ in range(many):
+        start = chance.choice(list(found) + [''])
+        found[(start + format(chance.getrandbits(32), 'b').zfill(32))[:chance.randint(0, width)]] = True
+    return list(found)
+
+
+def some_table_rows(chance, width, many, targets):
+    """Return rows of a table, not in ascending order."""
+    return {prefix: chance.choice(targets) for prefix in some_prefixes(chance, width, many)}
+
+
+def some_wish_rows(chance, width, many, targets):
+    """Return rows of a wish, not in ascending order; some of them allow nothing or only None."""
+    choices = [None] + list(targets)
+    return {prefix: chance.sample(choices, min(chance.choice((0, 1, 1, 2, 2, 3)), len(choices)))
+            for prefix in some_prefixes(chance, width, many)}
+
+
+def chances(many):
+    """Return sources of numbers that look random and are the same in each run."""
+    return [random.Random(seed) for seed in range(many)]

@@ -5,12 +5,17 @@ import pathlib
 import unittest
 
 PACKAGE = pathlib.Path(__file__).resolve().parent.parent / 'keptroutes'
-FUNCTIONS = {'maps.py': ('is_prefix',)}
+FUNCTIONS = {
+    'maps.py': ('is_prefix',),
+    'texts.py': ('format_map', 'parse_map'),
+    'stretches.py': ('stretches', 'first_difference', 'same_meaning'),
+}
 CLASSES = {
     'maps.py': {
         'PrefixMap': ('__init__', '__len__', '__eq__', 'width', 'rows', 'walk', 'longest', 'with_row', 'without'),
     },
     'tables.py': {'Table': ('__init__', 'of', 'is_target', 'lookup', 'targets')},
+    'wishes.py': {'Wish': ('__init__', 'exact', 'allowed', 'first_failure', 'is_fulfilled')},
 }
 
 

@@ -7,6 +7,7 @@ import unittest
 from keptroutes.errors import InvalidMap
 from keptroutes.maps import PrefixMap
 from keptroutes.tables import Table
+from keptroutes.wishes import Wish
 from tests.samples import NO_STRINGS, WIDTHS, longest_by_search, prefixes, raises
 
 
@@ -212,26 +213,38 @@ class EqualityTest(unittest.TestCase):
         self.check(PrefixMap(2, {}), PrefixMap(2, {}), True)
         self.check(Table(2, {'0': 'a'}), Table(2, {'0': 'a'}), True)
         self.check(Special(2, {'0': 1}), Special(2, {'0': 1}), True)
+        self.check(Wish(2, {}), Wish(2, {}), True)
+        self.check(Wish(2, {'0': ['b', None], '': []}), Wish(2, {'': (), '0': (None, 'b')}), True)
 
     def test_other_rows(self):
         some = PrefixMap(2, {'0': 1, '': 2})
         for rows in ({}, {'0': 1}, {'0': 1, '': 3}, {'0': 1, '1': 2}, {'0': 2, '': 1}, {'0': 1, '': 2, '1': 2}):
             self.check(some, PrefixMap(2, rows), False)
         self.check(Table(2, {'0': 'a'}), Table(2, {'0': 'b'}), False)
+        for rows in ({}, {'0': []}, {'0': [None]}, {'0': ['a', 'b']}, {'1': ['a']}, {'0': ['a'], '': []}):
+            self.check(Wish(2, {'0': ['a']}), Wish(2, rows), False)
 
     def test_other_widths(self):
         self.check(PrefixMap(2, {'0': 1}), PrefixMap(3, {'0': 1}), False)
         self.check(PrefixMap(2, {}), PrefixMap(1, {}), False)
         self.check(Table(2, {'0': 'a'}), Table(3, {'0': 'a'}), False)
+        self.check(Wish(2, {'0': ['a']}), Wish(3, {'0': ['a']}), False)
+        self.check(Wish(2, {}), Wish(1, {}), False)
 
     def test_other_classes(self):
         self.check(PrefixMap(2, {}), Table(2, {}), False)
         self.check(PrefixMap(2, {}), Special(2, {}), False)
         self.check(Table(2, {}), Special(2, {}), False)
         self.check(PrefixMap(2, {'0': 1}), Special(2, {'0': 1}), False)
+        for other in (PrefixMap(2, {}), Table(2, {}), Special(2, {})):
+            self.check(Wish(2, {}), other, False)
+        for other in (PrefixMap(2, {'0': 1}), Table(2, {'0': 'a'}), Table(2, {'0': 'any'})):
+            self.check(Wish(2, {'0': ['a']}), other, False)
+            self.check(Wish.exact(Table(2, {'0': 'a'})), other, False)
 
     def test_objects_that_are_no_maps(self):
-        for some in (PrefixMap(2, {}), PrefixMap(2, {'0': 1}), Table(2, {}), Table(2, {'0': 'a'})):
+        maps = (PrefixMap(2, {}), PrefixMap(2, {'0': 1}), Table(2, {}), Table(2, {'0': 'a'}))
+        for some in maps + (Wish(2, {}), Wish(2, {'0': ['a']})):
             for thing in NO_STRINGS + ('', '0', some.rows, some.width, list(some.walk()), object(), PrefixMap):
                 self.assertIs(some == thing, False)
                 self.assertIs(thing == some, False)

@@ -5,7 +5,9 @@ import unittest
 
 from keptroutes.maps import PrefixMap
 from keptroutes.tables import Table
-from tests.samples import NO_TARGETS, TARGETS, WIDTHS, addresses, kept_as_it_was, longest_by_search, prefixes
+from tests.samples import (
+    NO_TARGETS, TARGETS, WIDTHS, addresses, beside, kept_as_it_was, longest_by_search, prefixes,
+)
 
 
 class ExampleTest(unittest.TestCase):
@@ -156,14 +158,7 @@ class LookupTest(unittest.TestCase):
 
     def test_addresses_beside_each_prefix_of_width_32(self):
         rows = {'0101': 'a', '01011': 'b', '1' * 31: 'c', '1' * 32: 'd', '0' * 32: 'e', '0' * 16: 'f'}
-        some = set()
-        for prefix in rows:
-            first = int(prefix.ljust(32, '0'), 2)
-            last = int(prefix.ljust(32, '1'), 2)
-            for number in (first - 1, first, first + 1, last - 1, last, last + 1):
-                if 0 <= number < 2 ** 32:
-                    some.add(format(number, 'b').zfill(32))
-        self.check(32, rows, sorted(some))
+        self.check(32, rows, beside(32, rows))
 
     def test_the_empty_prefix_leads_all_the_rest(self):
         table = Table.of(32, ('', 'a'), ('1' * 32, 'b'))
