@@ -2,6 +2,7 @@
 
 import copy
 import random
+import unittest
 
 
 def nested(depth):
@@ -69,6 +70,14 @@ def raises(test, error, action):
     with test.assertRaises(error) as caught:
         action()
     test.assertIs(caught.exception.__class__, error)
+
+
+class RefusingTest(unittest.TestCase):
+    """The base of tests in which wrong objects are refused and stay as they are."""
+
+    def refused(self, error, action, thing):
+        with self.subTest(thing=repr(thing)[:60]):
+            kept_as_it_was(self, thing, lambda: raises(self, error, lambda: action(thing)))
 
 
 def addresses(width):

@@ -9,6 +9,10 @@ FUNCTIONS = {
     'maps.py': ('is_prefix',),
     'texts.py': ('format_map', 'parse_map'),
     'stretches.py': ('stretches', 'first_difference', 'same_meaning'),
+    'tasks.py': ('cost', 'is_solution'),
+    'obstacles.py': ('is_obstacle', 'obstacles', 'first_obstacle'),
+    'cheapest.py': ('least_cost', 'cheapest'),
+    'certificates.py': ('certificate', 'check_certificate'),
 }
 CLASSES = {
     'maps.py': {
@@ -16,6 +20,10 @@ CLASSES = {
     },
     'tables.py': {'Table': ('__init__', 'of', 'is_target', 'lookup', 'targets')},
     'wishes.py': {'Wish': ('__init__', 'exact', 'allowed', 'first_failure', 'is_fulfilled')},
+    'tasks.py': {
+        'Prices': ('__init__', 'adding', 'changing', 'removing', 'single', 'with_row'),
+        'Task': ('__init__', 'table', 'wish', 'prices', 'nodes', 'leaves', 'choices'),
+    },
 }
 
 

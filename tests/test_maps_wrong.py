@@ -4,7 +4,9 @@ import unittest
 
 from keptroutes.errors import InvalidMap, InvalidPrefix, UnknownRow
 from keptroutes.maps import PrefixMap
-from tests.samples import INTEGERS, NO_TEXTS, NO_WIDTHS, WIDTHS, kept_as_it_was, raises, wrong_prefixes
+from tests.samples import (
+    INTEGERS, NO_TEXTS, NO_WIDTHS, WIDTHS, RefusingTest, kept_as_it_was, raises, wrong_prefixes,
+)
 
 # Objects of all kinds that are no values of the base class.
 NO_VALUES = NO_TEXTS + ('', '0', '1', 'a', '-')
@@ -61,7 +63,7 @@ class ConstructorTest(unittest.TestCase):
         self.refused(3, {0: 1, '0': True})
 
 
-class MethodTest(unittest.TestCase):
+class MethodTest(RefusingTest):
     def setUp(self):
         self.rows = {'': 5, '1': 7, '10': 9}
         self.some = PrefixMap(3, self.rows)
@@ -69,10 +71,6 @@ class MethodTest(unittest.TestCase):
     def tearDown(self):
         self.assertEqual(list(self.some.walk()), [('', 5), ('1', 7), ('10', 9)])
         self.assertEqual(self.some.width, 3)
-
-    def refused(self, error, action, thing):
-        with self.subTest(thing=repr(thing)[:60]):
-            kept_as_it_was(self, thing, lambda: raises(self, error, lambda: action(thing)))
 
     def test_with_row_and_an_invalid_prefix(self):
         for prefix in wrong_prefixes(3):

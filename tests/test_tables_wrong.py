@@ -1,11 +1,9 @@
 """Points 2, 3 and 9: wrong inputs for tables."""
 
-import unittest
-
 from keptroutes.errors import InvalidAddress, InvalidMap, InvalidPrefix, UnknownRow
 from keptroutes.tables import Table
 from tests.samples import (
-    INTEGERS, NO_STRINGS, NO_TARGETS, NO_TEXTS, NO_WIDTHS, WIDTHS, kept_as_it_was, raises, wrong_addresses,
+    INTEGERS, NO_STRINGS, NO_TARGETS, NO_TEXTS, NO_WIDTHS, WIDTHS, RefusingTest, raises, wrong_addresses,
     wrong_prefixes,
 )
 
@@ -13,12 +11,6 @@ NO_PAIRS = NO_STRINGS + (
     '', '0', '0a', ('0',), ('0', 'a', 'b'), ('0', 'a', None), (), ['0', 'a'], [('0', 'a')], (('0', 'a'),), {'0': 'a'},
     {'0': 1, 'a': 2},
 )
-
-
-class RefusingTest(unittest.TestCase):
-    def refused(self, error, action, thing):
-        with self.subTest(thing=repr(thing)[:60]):
-            kept_as_it_was(self, thing, lambda: raises(self, error, lambda: action(thing)))
 
 
 class ConstructorTest(RefusingTest):

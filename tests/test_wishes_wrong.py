@@ -1,12 +1,10 @@
 """Points 2, 3, 8 and 10: wrong inputs for wishes."""
 
-import unittest
-
 from keptroutes.errors import InvalidAddress, InvalidMap, InvalidPair, InvalidPrefix, UnknownRow
 from keptroutes.tables import Table
 from keptroutes.wishes import Wish
 from tests.samples import (
-    INTEGERS, NO_ALLOWED, NO_TARGETS, NO_TEXTS, NO_WIDTHS, WIDTHS, kept_as_it_was, raises, wrong_addresses,
+    INTEGERS, NO_ALLOWED, NO_TARGETS, NO_TEXTS, NO_WIDTHS, WIDTHS, RefusingTest, raises, wrong_addresses,
     wrong_prefixes,
 )
 
@@ -22,12 +20,6 @@ def with_member(thing):
         allowed.insert(place, thing)
         found += [allowed, tuple(allowed)]
     return found + [[thing], (thing,)]
-
-
-class RefusingTest(unittest.TestCase):
-    def refused(self, error, action, thing):
-        with self.subTest(thing=repr(thing)[:60]):
-            kept_as_it_was(self, thing, lambda: raises(self, error, lambda: action(thing)))
 
 
 class ConstructorTest(RefusingTest):
