@@ -120,3 +120,48 @@ def keeps_the_rules(task, thing):
                 if number is not None and (entry is None or entry > number):
                     return False
     return True
+
+
+def changes_of(old, new):
+    """Return the sequence of point 7 as a list."""
+    differing = [prefix for prefix in set(old) | set(new) if old.get(prefix) != new.get(prefix)]
+    kept = sorted((prefix for prefix in differing if prefix in new), key=lambda prefix: (-len(prefix), prefix))
+    gone = sorted((prefix for prefix in differing if prefix not in new), key=lambda prefix: (len(prefix), prefix))
+    return [(prefix, new.get(prefix)) for prefix in kept + gone]
+
+
+def walked(old, sequence):
+    """Return the rows after each change of a sequence."""
+    found = []
+    rows = dict(old)
+    for prefix, target in sequence:
+        if target is None:
+            del rows[prefix]
+        else:
+            rows[prefix] = target
+        found.append(dict(rows))
+    return found
+
+
+def is_safe_by_search(old, new, sequence, some):
+    """Return True if each of the addresses leads to its old or new target after each change of a sequence."""
+    free = {address: (target_at(old, address), target_at(new, address)) for address in some}
+    return all(target_at(rows, address) in free[address] for rows in walked(old, sequence) for address in some)
+
+
+def merged_of(base, one, two):
+    """Return the set of the merged targets of point 22 from the targets of an address."""
+    if one == two or two == base:
+        return {one}
+    return {two} if one == base else {one, two}
+
+
+def merged_at(base, one, two, address):
+    """Return the ascending tuple of the merged targets of an address from the rows of three tables."""
+    return ascending(merged_of(*(target_at(rows, address) for rows in (base, one, two))))
+
+
+def common_leaves_of(*tables):
+    """Return the leaves of tables of point 22 in ascending order."""
+    # As rows of a wish, prefixes span just the tree that is meant.
+    return leaves_of(nodes_of(0, {}, [prefix for rows in tables for prefix in rows]))

@@ -127,6 +127,32 @@ def some_wish_rows(chance, width, many, targets):
             for prefix in some_prefixes(chance, width, many)}
 
 
+def just_prefixes(chance, width, many):
+    """Return exactly so many different prefixes, of which some begin with others."""
+    found = {}
+    while len(found) < many:
+        found.update(dict.fromkeys(some_prefixes(chance, width, many)))
+    return chance.sample(list(found), many)
+
+
+def near_rows(chance, width, rows, targets, many=3):
+    """Return rows of which up to so many are left out, and up to so many are added or have other targets."""
+    left = chance.sample(list(rows), min(len(rows), chance.randint(0, many)))
+    near = {prefix: target for prefix, target in rows.items() if prefix not in left}
+    for prefix in chance.sample(list(near), min(len(near), chance.randint(0, many))):
+        near[prefix] = chance.choice(targets)
+    near.update(some_table_rows(chance, width, chance.randint(0, many), targets))
+    return near
+
+
+def some_pairs(chance, width, many, targets):
+    """Return pairs of rows of tables: nearly the same and quite other ones, without rows, and the same ones."""
+    one = some_table_rows(chance, width, many, targets)
+    two = some_table_rows(chance, width, many, targets)
+    near = near_rows(chance, width, one, targets)
+    return [(one, near), (near, one), (one, two), (one, {}), ({}, one), (one, dict(one)), ({}, {})]
+
+
 def chances(many):
     """Return sources of numbers that look random and are the same in each run."""
     return [random.Random(seed) for seed in range(many)]

@@ -13,6 +13,9 @@ FUNCTIONS = {
     'obstacles.py': ('is_obstacle', 'obstacles', 'first_obstacle'),
     'cheapest.py': ('least_cost', 'cheapest'),
     'certificates.py': ('certificate', 'check_certificate'),
+    'fewest.py': ('fewest_rows', 'fewest_equal'),
+    'sequences.py': ('changes', 'moments', 'is_safe'),
+    'merging.py': ('merge_wish', 'conflicts', 'merge_task'),
 }
 CLASSES = {
     'maps.py': {
