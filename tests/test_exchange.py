@@ -8,6 +8,7 @@ from keptroutes.errors import NoSolution
 from keptroutes.fewest import fewest_equal, fewest_rows
 from keptroutes.merging import conflicts, merge_task, merge_wish
 from keptroutes.obstacles import is_obstacle, obstacles
+from keptroutes.plans import moved_runs, switches
 from keptroutes.sequences import changes, is_safe, moments
 from keptroutes.stretches import first_difference, same_meaning, stretches
 from keptroutes.tables import Table
@@ -95,7 +96,9 @@ class PairTest(unittest.TestCase):
                 self.assertEqual(found, changes(three, four))
                 tables = [exchange.table(table) for table in moments(one, two)]
                 self.assertEqual(tables, list(moments(three, four)))
+                self.assertEqual([exchange.runs(runs) for runs in switches(one, two)], list(switches(three, four)))
             self.assertEqual(len(list(moments(three, four))), len(found))
+            self.assertEqual(moved_runs(three, four), exchange.runs(moved_runs(one, two)))
             for _ in range(4):
                 some = chance.sample(changes(one, two), len(found))
                 self.assertIs(is_safe(three, four, exchange.changes(some)), is_safe(one, two, some))

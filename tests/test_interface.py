@@ -16,6 +16,7 @@ FUNCTIONS = {
     'fewest.py': ('fewest_rows', 'fewest_equal'),
     'sequences.py': ('changes', 'moments', 'is_safe'),
     'merging.py': ('merge_wish', 'conflicts', 'merge_task'),
+    'plans.py': ('moved_runs', 'switches'),
 }
 CLASSES = {
     'maps.py': {
@@ -26,6 +27,18 @@ CLASSES = {
     'tasks.py': {
         'Prices': ('__init__', 'adding', 'changing', 'removing', 'single', 'with_row'),
         'Task': ('__init__', 'table', 'wish', 'prices', 'nodes', 'leaves', 'choices'),
+    },
+    'history.py': {
+        'History': ('__init__', 'revise', 'put', 'cut', 'version', 'undo', '__len__', 'latest', 'spent', 'copy'),
+    },
+    'board.py': {
+        'Board': ('__init__', 'create', 'put', 'take', 'price', 'lock', 'free', 'revise', 'drop', 'mark', 'back',
+                  'batch', 'names', 'table_of', 'prices_of', 'spent_on', 'log', 'copy'),
+    },
+    'shell.py': {'Shell': ('__init__', 'run')},
+    'plans.py': {
+        'Plan': ('__init__', 'steps', 'done', 'current', 'is_finished', 'advance', 'back', 'finish', 'abandon',
+                 'rebased', 'copy'),
     },
 }
 
