@@ -85,6 +85,12 @@ class InvalidLineTest(ShellTest):
                 self.wrong(InvalidLine, f'create {name} {word}', f'price {name} {word} 1 1', f'price {name} 1 {word} 1',
                            f'price {name} 1 1 {word}', f'price {name} 0 0 {word}', f'price {name} {word} {word} {word}')
 
+    def test_each_sign_at_each_place_of_a_number(self):
+        for sign in [chr(number) for number in range(33, 127)] + ['\t', '\n']:
+            if sign not in '0123456789':
+                for word in (sign, sign + '1', '1' + sign, '1' + sign + '1', sign + sign, '12' + sign, sign * 4):
+                    self.wrong(InvalidLine, f'create new {word}', f'price main 1 1 {word}')
+
     def test_first_words(self):
         for word in FIRST_WORDS:
             for rest in ('', ' main', ' main 1', ' main 1 a', ' main 1 1 1', ' main 1 1 1 1'):
