@@ -60,16 +60,12 @@ class Board:
         self._marks = {}
         self._log = []
 
-    def _logged(self, word, action, *arguments):
-        """Run a command that does not write the log itself, and return its result."""
-        self._log.append(word)
-        try:
-            result = action(*arguments)
-        except RouteError:
-            self._log.append("failed")
-            raise
-        self._log.append("done")
-        return result
+    def _begin(self, word):
+        # A command has failed unless it comes to its end.
+        self._log.extend([word, "failed"])
+
+    def _end(self):
+        self._log[-1] = "done"
 
     def _entry(self, name):
         """Return the tuple (table, prices, amount) of a table."""
@@ -82,108 +78,100 @@ class Board:
 
     def create(self, name, width):
         """Add an empty table with the default prices."""
-        self._logged("create", self._create, name, width)
-
-    def _create(self, name, width):
+        self._begin("create")
         check_new(name, self._entries)
         self._keep(name, Table(width, {}), Prices(), 0)
+        self._end()
 
     def put(self, name, prefix, target):
         """Add a row or change its target, whatever the prices."""
-        self._logged("put", self._put, name, prefix, target)
-
-    def _put(self, name, prefix, target):
+        self._begin("put")
         table, prices, spent = self._entry(name)
         self._keep(name, table.with_row(prefix, target), prices, spent)
+        self._end()
 
     def take(self, name, prefix):
         """Remove a row; it is not locked any more."""
-        self._logged("take", self._take, name, prefix)
-
-    def _take(self, name, prefix):
+        self._begin("take")
         table, prices, spent = self._entry(name)
         self._keep(name, table.without(prefix), freed(prices, prefix), spent)
+        self._end()
 
     def price(self, name, *, adding=1, changing=1, removing=1):
         """Set the three prices; prices of single rows and locks stay."""
-        self._logged("price", self._price, name, adding, changing, removing)
-
-    def _price(self, name, adding, changing, removing):
+        self._begin("price")
         table, prices, spent = self._entry(name)
         made = Prices(adding=adding, changing=changing, removing=removing)
         self._keep(name, table, with_single(made, prices.single), spent)
+        self._end()
 
     def lock(self, name, prefix):
         """Lock a row."""
-        self._logged("lock", self._lock, name, prefix)
-
-    def _lock(self, name, prefix):
+        self._begin("lock")
         table, prices, spent = self._entry(name)
         check_row(table, prefix)
         self._keep(name, table, prices.with_row(prefix, None), spent)
+        self._end()
 
     def free(self, name, prefix):
         """Let a row have no price of its own and no lock any more."""
-        self._logged("free", self._free, name, prefix)
-
-    def _free(self, name, prefix):
+        self._begin("free")
         table, prices, spent = self._entry(name)
         check_row(table, prefix)
         self._keep(name, table, freed(prices, prefix), spent)
+        self._end()
 
     def revise(self, name, rows):
         """Change a table to a cheapest solution for the wish with these rows and return its cost."""
-        return self._logged("revise", self._revise, name, rows)
-
-    def _revise(self, name, rows):
+        self._begin("revise")
         table, prices, spent = self._entry(name)
         price, made = cheapest(Task(table, Wish(table.width, rows), prices))
         self._keep(name, made, prices, spent + price)
+        self._end()
         return price
 
     def drop(self, name):
         """Remove a table."""
-        self._logged("drop", self._drop, name)
-
-    def _drop(self, name):
+        self._begin("drop")
         self._entry(name)
         self._entries = {kept: self._entries[kept] for kept in self._entries if kept != name}
+        self._end()
 
     def mark(self, label):
         """Record all tables, prices and amounts under this label."""
-        self._logged("mark", self._mark, label)
-
-    def _mark(self, label):
+        self._begin("mark")
         check_new(label, self._marks)
         self._marks = {**self._marks, label: self._entries}
+        self._end()
 
     def back(self, label):
         """Restore what was recorded under this label; all marks stay."""
-        self._logged("back", self._back, label)
-
-    def _back(self, label):
+        self._begin("back")
         if not isinstance(label, str) or label not in self._marks:
             raise UnknownMark("there is no mark with this label")
         self._entries = self._marks[label]
+        self._end()
 
     def batch(self, commands):
         """Execute a list of commands in order, all or none of them, and return the list of their results."""
-        return self._logged("batch", self._batch, commands)
-
-    def _batch(self, commands):
-        if not isinstance(commands, list):
-            raise InvalidCommand("the argument is no list")
+        self._log.append("batch")
         entries = self._entries
         marks = self._marks
-        results = []
         try:
-            for command in commands:
-                results.append(self._result(command))
+            results = self._results(commands)
         except RouteError:
             self._entries = entries
             self._marks = marks
+            self._log.append("failed")
             raise
+        self._log.append("done")
         return results
+
+    def _results(self, commands):
+        """Execute the items of a batch and return the list of their results."""
+        if not isinstance(commands, list):
+            raise InvalidCommand("the argument is no list")
+        return [self._result(command) for command in commands]
 
     def _result(self, command):
         """Execute an item of a batch and return its result."""
